@@ -1,0 +1,1 @@
+"""Millbrook: neighbours that change places only where a third stone helps."""

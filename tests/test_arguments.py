@@ -1,0 +1,205 @@
+"""Every argument of every function: wrong values of all kinds, and the order of the checks [4]."""
+
+import inspect
+
+from millbrook import bound, changes, far, houses, rows, tame, words
+from millbrook.errors import InvalidHouse, InvalidNumber, InvalidPlace, InvalidRow, InvalidText
+from millbrook.errors import InvalidWalk, InvalidWeight, InvalidWord, TooMany, UnlikeStones
+from millbrook.houses import House
+from tests import support
+from tests.support import MillTest
+
+HOUSE = House("l-h")
+ROW = [3, 1, 2, 4]
+BAG = [3, 1, 3, 2]
+# What is wrong as a place of a row of four stones, and as a walk of it.
+NOT_PLACES = support.NOT_INTEGERS + (-1, 3, 4, 10**5000, -10**5000)
+NOT_WALKS = support.NOT_LISTS + tuple(
+    kind(places)
+    for kind in (list, tuple)
+    for places in ([3], [0, 1, 2, 3], [-1], [0, True], [False], [1.0], [None], ["0"], [[0]], [0] * 20001)
+)
+NOT_WORDS = support.NOT_TEXTS + (
+    0, "U", "D", "DU", "UDD", "UUD", "UDDU", "-D-U", "u", "ud", "UDx", " ", "UD ", " UD", "U D", "U-D\n",
+    "UDU", "\u2212", "\u2013", "UD\0", "-" * 41, "U" * 21 + "D" * 21, "-" * 100000, b"UD", ["U", "D"],
+)
+NOT_ROW_TEXTS = support.NOT_TEXTS + (
+    "", " ", "Empty", "empty ", " empty", "empty empty", "1 empty", "EMPTY", "1 ", " 1", "1  2", "1\t2",
+    "1\n2", "1\n", "\n1", "1,2", "1, 2", "01", "00", "-0", "+1", "--1", "- 1", "-", "1-", "1 -", "1.0", "1e3",
+    "1_000", "0x1", "0b1", "x", "None", "True", "1 1", "2 3 2", "-5 5 -5", "(1, 2)", "[1]", "\u0661",
+    "\uff11", "1 \u0662", "\u00b2", "\u2212" + "1", "1\u00a02", "1000000000001", "-1000000000001",
+    "0000000000001", "10000000000000", "9" * 14, "1" * 5000, "1" * 100000, "-" + "1" * 100000,
+    "0" * 100000, "-" * 100000, " " * 100000, " ".join(str(weight) for weight in range(41)),
+    " ".join(str(weight) for weight in range(50000)), "empty" * 10000,
+)
+
+
+def number(low, high):
+    """What is wrong as a number from low to high."""
+    return InvalidNumber, support.NOT_INTEGERS + (low - 1, high + 1, 10**5000, -10**5000)
+
+
+A_ROW = (InvalidRow, support.NOT_ROWS)
+A_BAG = (InvalidRow, support.NOT_BAG_ROWS)
+A_WEIGHT = (InvalidWeight, support.NOT_WEIGHTS)
+A_PLACE = (InvalidPlace, NOT_PLACES)
+A_WALK = (InvalidWalk, NOT_WALKS)
+A_HOUSE = (InvalidHouse, support.not_houses())
+A_TEXT = (InvalidText, NOT_ROW_TEXTS)
+A_WORD = (InvalidWord, NOT_WORDS)
+
+# Each call with good arguments, and what its arguments are.
+CALLS = (
+    (rows.ranks, (ROW, A_ROW)),
+    (rows.mirrored_row, (ROW, A_ROW)),
+    (rows.flipped_row, (ROW, A_ROW)),
+    (rows.turned, (ROW, A_ROW), (ROW[::-1], A_ROW)),
+    (rows.put_in, (ROW, A_ROW), (9, A_WEIGHT), (4, number(0, 4))),
+    (rows.taken_out, (ROW, A_ROW), (2, A_WEIGHT)),
+    (rows.every_row, (ROW, A_ROW)),
+    (rows.row_text, (ROW, A_ROW)),
+    (rows.parse_row, ("3 1 2 4", A_TEXT)),
+    (House, ("l-h", (InvalidHouse, support.NOT_TEXTS + support.BAD_HOUSE_TEXTS + (0, 33)))),
+    (House.by_number, (63, number(1, 63))),
+    (HOUSE.is_finer, (HOUSE, A_HOUSE)),
+    (changes.kinds_at, (ROW, A_ROW), (2, A_PLACE)),
+    (changes.helpers, (ROW, A_ROW), (2, A_PLACE), (HOUSE, A_HOUSE)),
+    (changes.nearest_helper, (ROW, A_ROW), (2, A_PLACE), (HOUSE, A_HOUSE)),
+    (changes.keystone, (ROW, A_ROW), (2, A_PLACE), (HOUSE, A_HOUSE)),
+    (changes.is_free, (ROW, A_ROW), (2, A_PLACE), (HOUSE, A_HOUSE)),
+    (changes.free_places, (ROW, A_ROW), (HOUSE, A_HOUSE)),
+    (changes.change_at, (ROW, A_ROW), (0, A_PLACE), (HOUSE, A_HOUSE)),
+    (changes.after, (ROW, A_ROW), ([0], A_WALK), (HOUSE, A_HOUSE)),
+    (changes.rows_along, (ROW, A_ROW), ([0], A_WALK), (HOUSE, A_HOUSE)),
+    (tame.is_tame, (BAG, A_BAG), (2, A_PLACE)),
+    (tame.tame_places, (BAG, A_BAG)),
+    (tame.tame_change, (BAG, A_BAG), (0, A_PLACE)),
+    (tame.tame_after, (BAG, A_BAG), ([0], A_WALK)),
+    (tame.named_stones, (BAG, A_BAG)),
+    (tame.named_turned, (BAG, A_BAG), (BAG[::-1], A_BAG)),
+    (far.rising, (BAG, A_BAG)),
+    (far.far_couples, (BAG, A_BAG)),
+    (far.reach, (BAG, A_BAG)),
+    (far.comes_tame, (BAG, A_BAG), (BAG[::-1], A_BAG)),
+    (far.tame_distance, (BAG, A_BAG), (BAG[::-1], A_BAG)),
+    (far.tame_walk, (BAG, A_BAG), (BAG[::-1], A_BAG)),
+    (far.parting_couple, (BAG, A_BAG), (BAG[::-1], A_BAG)),
+    (far.shows_parting, (BAG, A_BAG), (BAG[::-1], A_BAG), (None, None)),
+    (lambda weight: far.Brook().lay(weight), (9, A_WEIGHT)),
+    (words.word_of, (ROW, A_ROW)),
+    (words.couples_of_word, ("U--D", A_WORD)),
+    (words.plainest, ("U--D", A_WORD), (ROW, A_ROW)),
+    (words.count_words, (60, number(0, 60))),
+    (words.count_stuck, (60, number(0, 60))),
+    (words.every_word, (4, number(0, 10))),
+    (words.word_index, ("U--D", A_WORD)),
+    (words.word_at, (4, number(0, 40)), (8, number(0, 8))),
+    (bound.bound_pairs, (BAG, A_BAG)),
+    (bound.width, (BAG, A_BAG)),
+    (bound.row_index, (BAG, A_BAG)),
+    (bound.row_at, ((3, 2, 1), A_BAG), (0, number(0, 0))),
+    (bound.first_tame, (BAG, A_BAG)),
+)
+SHORT_CALLS = (
+    (rows.every_row, 7), (bound.width, 10), (bound.row_index, 10), (bound.row_at, 10, None),
+)
+PAIR_CALLS = (rows.turned,)
+BAG_PAIR_CALLS = (
+    tame.named_turned, far.comes_tame, far.tame_distance, far.tame_walk, far.parting_couple,
+)
+
+
+class Arguments(MillTest):
+
+    def test_the_good_arguments_are_good(self):
+        for function, *told in CALLS:
+            result = function(*[good for good, _ in told])
+            if inspect.isgenerator(result):
+                next(result)
+
+    def test_each_wrong_value_of_each_argument(self):
+        for function, *told in CALLS:
+            good = [value for value, _ in told]
+            for at, (_, kind) in enumerate(told):
+                if kind is None:
+                    continue
+                error, bad_values = kind
+                for bad in bad_values:
+                    with self.subTest(function=function, at=at):
+                        self.check_error(error(bad), function, *good[:at], bad, *good[at + 1:])
+
+    def test_the_first_wrong_argument_counts(self):
+        for function, *told in CALLS:
+            good = [value for value, _ in told]
+            for at, (_, kind) in enumerate(told):
+                if kind is None:
+                    continue
+                error, bad_values = kind
+                for bad in bad_values:
+                    worse = [support.Odd() for _ in told[at + 1:]]
+                    with self.subTest(function=function, at=at):
+                        self.check_error(error(bad), function, *good[:at], bad, *worse)
+
+    def test_keyword_arguments_come_last(self):
+        for bad in number(0, 60)[1]:
+            if bad is not None:
+                self.check_error(InvalidNumber(bad), words.count_words, 5, couples=bad)
+                self.check_error(InvalidNumber(-1), words.count_words, -1, couples=bad)
+
+    def test_arguments_by_name(self):
+        self.assertEqual(rows.put_in(index=0, weight=9, row=[1]), (9, 1))
+        self.check_error(InvalidRow(0), rows.put_in, index=-1, weight=None, row=0)
+        self.assertEqual(changes.is_free(house=HOUSE, place=0, row=[1, 2, 3]), True)
+        self.check_error(InvalidPlace(2), changes.is_free, house=None, place=2, row=[1, 2, 3])
+
+    def test_limits_of_stones_are_part_of_the_check_of_the_row(self):
+        for function, most, *others in SHORT_CALLS:
+            for stones in range(most + 1, 41):
+                self.check_error(TooMany(most, stones), function, list(range(stones)), *others)
+            self.check_error(InvalidRow(range(41)), function, range(41), *others)
+            for bad in (list(range(41)), tuple(range(41)), [True] * (most + 1)):
+                self.check_error(InvalidRow(bad), function, bad, *others)
+
+    def test_unlike_stones(self):
+        pairs = (((), (1,)), ([1], []), ((1, 2), (1, 3)), ((1, 2, 3), (1, 2)), ([1, 2], (3, 4)),
+                 (tuple(range(40)), list(range(1, 41))))
+        for first, second in pairs:
+            for function in PAIR_CALLS + BAG_PAIR_CALLS:
+                self.check_error(UnlikeStones(first, second), function, first, second)
+            self.check_error(UnlikeStones(first, second), far.shows_parting, first, second, None)
+
+    def test_unlike_bags(self):
+        pairs = (((1, 1), (1,)), ([1, 2, 2], (1, 1, 2)), ([1, 1, 2, 2], [2, 1, 2, 2]), ((5,) * 40, (5,) * 39),
+                 ((5,) * 40, (5,) * 39 + (6,)))
+        for first, second in pairs:
+            for function in BAG_PAIR_CALLS:
+                self.check_error(UnlikeStones(first, second), function, first, second)
+            self.check_error(UnlikeStones(first, second), far.shows_parting, first, second, None)
+            self.check_error(
+                UnlikeStones(first, second), far.shows_parting, first, second, (0, (1, 2), 0, 1))
+
+    def test_unlike_stones_come_behind_the_checks_of_both_rows(self):
+        for function in PAIR_CALLS + BAG_PAIR_CALLS:
+            self.check_error(InvalidRow((True,)), function, (1, 2), (True,))
+            self.check_error(InvalidRow([None]), function, [None], (True,))
+
+    def test_lists_and_tuples_are_alike_and_stay_as_they_were(self):
+        for function, *told in CALLS:
+            values = [good for good, _ in told]
+            copies = [list(value) if isinstance(value, list) else value for value in values]
+            packed = [tuple(value) if isinstance(value, list) else value for value in values]
+            result, other = function(*values), function(*packed)
+            if inspect.isgenerator(result):
+                result, other = list(result), list(other)
+            self.check_kinds(result, other)
+            self.assertEqual(values, copies)
+
+    def test_returned_lists_may_be_changed(self):
+        for function, *told in CALLS:
+            values = [good for good, _ in told]
+            result = function(*values)
+            if isinstance(result, list):
+                before = list(result)
+                result.append("more")
+                result.reverse()
+                self.assertEqual(function(*values), before)

@@ -1,0 +1,139 @@
+"""The names, arguments and kinds of the interface, and all errors of the document."""
+
+import importlib
+import inspect
+import unittest
+
+from millbrook import errors
+from millbrook.errors import MillError
+from millbrook.far import Brook
+from millbrook.houses import House
+
+FUNCTIONS = {
+    "rows": {
+        "ranks": "(row)", "mirrored_row": "(row)", "flipped_row": "(row)", "turned": "(first, second)",
+        "put_in": "(row, weight, index)", "taken_out": "(row, weight)", "every_row": "(stones)",
+        "row_text": "(row)", "parse_row": "(text)",
+    },
+    "houses": {"House": "(text)"},
+    "changes": {
+        "kinds_at": "(row, place)", "helpers": "(row, place, house)",
+        "nearest_helper": "(row, place, house)", "keystone": "(row, place, house)",
+        "is_free": "(row, place, house)", "free_places": "(row, house)",
+        "change_at": "(row, place, house)", "after": "(row, walk, house)",
+        "rows_along": "(row, walk, house)",
+    },
+    "tame": {
+        "is_tame": "(row, place)", "tame_places": "(row)", "tame_change": "(row, place)",
+        "tame_after": "(row, walk)", "named_stones": "(row)", "named_turned": "(first, second)",
+    },
+    "far": {
+        "rising": "(row)", "far_couples": "(row)", "covers": "(one, other)", "reach": "(row)",
+        "comes_tame": "(first, second)", "tame_distance": "(first, second)",
+        "tame_walk": "(first, second)", "parting_couple": "(first, second)",
+        "shows_parting": "(first, second, paper)", "Brook": "()",
+    },
+    "words": {
+        "is_word": "(word)", "word_of": "(row)", "couples_of_word": "(word)",
+        "plainest": "(word, stones)", "count_words": "(length, *, couples=None)",
+        "count_stuck": "(length)", "every_word": "(length)", "word_index": "(word)",
+        "word_at": "(length, index)",
+    },
+    "bound": {
+        "bound_pairs": "(row)", "width": "(row)", "row_index": "(row)", "row_at": "(row, index)",
+        "first_tame": "(row)",
+    },
+}
+GENERATORS = ("every_row", "rows_along", "every_word")
+METHODS = {
+    House: {
+        "named": "(self)", "mirrored": "(self)", "flipped": "(self)", "is_finer": "(self, other)",
+        "__contains__": "(self, kind)", "__len__": "(self)", "__eq__": "(self, other)",
+        "__str__": "(self)", "__repr__": "(self)", "__or__": "(self, other)",
+        "__and__": "(self, other)", "__init__": "(self, text)",
+    },
+    Brook: {"__init__": "(self)", "lay": "(self, weight)", "lift": "(self)"},
+}
+ERRORS = {
+    "InvalidRow": "row", "InvalidWeight": "weight", "InvalidPlace": "place", "InvalidWalk": "walk",
+    "InvalidHouse": "house", "InvalidNumber": "number", "InvalidAnswer": "answer",
+    "InvalidName": "name", "InvalidText": "text", "InvalidWord": "word", "InvalidKinds": "kinds",
+    "InvalidKeeper": "keeper", "InvalidCost": "cost", "InvalidTable": "table", "InvalidLog": "log",
+    "InvalidDeeds": "deeds", "InvalidCouple": "first second", "TooMany": "most given",
+    "UnlikeStones": "first second", "NoStone": "weight", "StoneThere": "weight",
+    "Barred": "place step", "NothingLaid": "", "NoExactDistance": "house", "NoBook": "house",
+    "SayingThere": "first second", "NoSaying": "saying", "Ring": "stronger weaker",
+    "WantTooSmall": "stronger weaker", "NameThere": "name", "NoName": "name",
+    "Conflict": "house one other", "NothingToUndo": "", "NothingToRedo": "", "Full": "most",
+    "Apart": "first second", "DeedRefused": "index",
+}
+
+
+class Interface(unittest.TestCase):
+
+    def test_functions_and_classes(self):
+        for file, names in FUNCTIONS.items():
+            module = importlib.import_module("millbrook." + file)
+            for name, parameters in names.items():
+                with self.subTest(file=file, name=name):
+                    made = getattr(module, name)
+                    self.assertEqual(str(inspect.signature(made)), parameters)
+                    self.assertEqual(made.__module__, "millbrook." + file)
+
+    def test_generators(self):
+        for file, names in FUNCTIONS.items():
+            module = importlib.import_module("millbrook." + file)
+            for name in names:
+                made = inspect.isgeneratorfunction(getattr(module, name))
+                self.assertEqual(made, name in GENERATORS, name)
+
+    def test_methods_stand_in_their_own_classes(self):
+        for owner, names in METHODS.items():
+            for name, parameters in names.items():
+                self.assertIn(name, vars(owner))
+                self.assertEqual(str(inspect.signature(vars(owner)[name])), parameters, name)
+
+    def test_class_methods_and_properties(self):
+        self.assertIsInstance(vars(House)["by_number"], classmethod)
+        self.assertEqual(str(inspect.signature(House.by_number)), "(number)")
+        self.assertIsInstance(vars(House)["every"], staticmethod)
+        self.assertEqual(str(inspect.signature(House.every)), "()")
+        for name in ("laid", "couples", "lightest"):
+            self.assertIsInstance(vars(Brook)[name], property)
+
+    def test_class_value(self):
+        self.assertEqual(vars(House)["KINDS"], ("l-", "b-", "h-", "-l", "-b", "-h"))
+
+    def test_limits(self):
+        rows = importlib.import_module("millbrook.rows")
+        self.assertEqual((rows.MOST_STONES, rows.MOST_WEIGHT, rows.MOST_WALK), (40, 10**12, 20000))
+
+
+class Errors(unittest.TestCase):
+
+    def test_base_class(self):
+        self.assertEqual(MillError.__bases__, (ValueError,))
+        self.assertEqual(MillError.__module__, "millbrook.errors")
+
+    def test_all_errors_and_no_others(self):
+        found = {name for name, made in vars(errors).items() if isinstance(made, type)}
+        self.assertEqual(found, set(ERRORS) | {"MillError"})
+
+    def test_each_error_is_a_direct_subclass_and_keeps_its_arguments(self):
+        for name, fields in ERRORS.items():
+            made = getattr(errors, name)
+            self.assertEqual(made.__bases__, (MillError,))
+            self.assertEqual(made.__module__, "millbrook.errors")
+            values = [[name, field] for field in fields.split()]
+            for error in (made(*values), made(**dict(zip(fields.split(), values)))):
+                self.assertEqual(list(vars(error)), fields.split())
+                for field, value in zip(fields.split(), values):
+                    self.assertIs(getattr(error, field), value)
+
+    def test_errors_take_no_other_number_of_arguments(self):
+        for name, fields in ERRORS.items():
+            if fields:
+                with self.assertRaises(TypeError):
+                    getattr(errors, name)(*["x"] * (len(fields.split()) + 1))
+                with self.assertRaises(TypeError):
+                    getattr(errors, name)()
