@@ -109,6 +109,21 @@ BAG_PAIR_CALLS = (
 )
 
 
+def wrong_arguments():
+    """Each call with its good arguments, and for each of these each error of a wrong value in its place."""
+    for function, *told in CALLS:
+        good = [value for value, _ in told]
+        for at, (_, kind) in enumerate(told):
+            error, bad_values = kind or (None, ())
+            for bad in bad_values:
+                yield function, good, at, error(bad)
+
+
+def bad_value(error):
+    """The wrong value that the error tells."""
+    return list(vars(error).values())[0]
+
+
 class Arguments(MillTest):
 
     def test_the_good_arguments_are_good(self):
@@ -118,27 +133,15 @@ class Arguments(MillTest):
                 next(result)
 
     def test_each_wrong_value_of_each_argument(self):
-        for function, *told in CALLS:
-            good = [value for value, _ in told]
-            for at, (_, kind) in enumerate(told):
-                if kind is None:
-                    continue
-                error, bad_values = kind
-                for bad in bad_values:
-                    with self.subTest(function=function, at=at):
-                        self.check_error(error(bad), function, *good[:at], bad, *good[at + 1:])
+        for function, good, at, error in wrong_arguments():
+            with self.subTest(function=function, at=at):
+                self.check_error(error, function, *good[:at], bad_value(error), *good[at + 1:])
 
     def test_the_first_wrong_argument_counts(self):
-        for function, *told in CALLS:
-            good = [value for value, _ in told]
-            for at, (_, kind) in enumerate(told):
-                if kind is None:
-                    continue
-                error, bad_values = kind
-                for bad in bad_values:
-                    worse = [support.Odd() for _ in told[at + 1:]]
-                    with self.subTest(function=function, at=at):
-                        self.check_error(error(bad), function, *good[:at], bad, *worse)
+        for function, good, at, error in wrong_arguments():
+            worse = [support.Odd() for _ in good[at + 1:]]
+            with self.subTest(function=function, at=at):
+                self.check_error(error, function, *good[:at], bad_value(error), *worse)
 
     def test_keyword_arguments_come_last(self):
         for bad in number(0, 60)[1]:
