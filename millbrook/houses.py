@@ -18,10 +18,12 @@ def number_of_text(text):
     """The number of the house with this text, or 0 if the value is not the text of a house."""
     if not isinstance(text, str):
         return 0
+    # The operators of House run this, so nothing is called here that has the name of an attribute, as index has.
+    numbers = {side: number for number, side in enumerate(_SIDES)}
     before, dash, behind = text.partition("-")
-    if dash == "" or before not in _SIDES or behind not in _SIDES:
+    if dash == "" or before not in numbers or behind not in numbers:
         return 0
-    return _SIDES.index(before) + 8 * _SIDES.index(behind)
+    return numbers[before] + 8 * numbers[behind]
 
 
 def check_house(house):
@@ -84,7 +86,7 @@ class House:
         return isinstance(other, House) and self.number == other.number
 
     def __str__(self):
-        return self.text
+        return str(self.text)
 
     def __repr__(self):
         return f"House({self.text!r})"

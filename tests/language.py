@@ -199,7 +199,83 @@ def rule_L4(source, files):
                 yield default
 
 
+def called_name(node):
+    """The name of the function, class or method that the node calls, or None."""
+    return getattr(node.func, "id", getattr(node.func, "attr", None)) if isinstance(node, ast.Call) else None
+
+
+def stored_attributes(files):
+    """The names of all attributes that some file assigns."""
+    return {node.attr for file in files.values() for node in file.of(ast.Attribute)
+            if isinstance(node.ctx, ast.Store)}
+
+
+def silent_functions(files):
+    """The functions that an operator, a property, an __eq__ and the like run, through all that they call.
+
+    Calls are followed by their names alone, and a class that is called runs its __init__.
+    """
+    made = {}
+    for file in files.values():
+        for node in file.functions:
+            made.setdefault(node.name, []).append(node)
+        for owner in file.classes:
+            made.setdefault(owner.name, []).extend(
+                node for node in owner.body if getattr(node, "name", None) == "__init__")
+    queue = [node for file in files.values() for node in file.functions if is_silent(file, node)]
+    for node in queue:
+        for call in ast.walk(node):
+            queue += [found for found in made.get(called_name(call), []) if found not in queue]
+    return queue
+
+
+def is_silent(source, node):
+    """Tells whether the function is an operator, a property, an __eq__ or the like."""
+    word = node.name.strip("_")
+    in_place = word in ("iadd", "isub", "imul", "ifloordiv", "imod", "ipow", "iand", "ior", "ixor", "ilshift", "irshift")
+    loud = in_place or word in ("init", "call", "enter", "exit", "iter", "setitem")
+    operator = node.name.startswith("__") and word in DUNDERS and not loud
+    return operator or any(getattr(decorator, "id", "") == "property" for decorator in node.decorator_list)
+
+
+def names_made(node):
+    """The local names of a function that are only ever assigned a new list, dict or set, or a slice."""
+    made, other = set(), {argument.arg for argument in ast.walk(node.args) if isinstance(argument, ast.arg)}
+    for at in ast.walk(node):
+        if isinstance(at, ast.Assign) and len(at.targets) == 1 and isinstance(at.targets[0], ast.Name):
+            new = isinstance(at.value, (ast.List, ast.Dict, ast.Set, ast.ListComp, ast.DictComp, ast.SetComp))
+            new = new or is_call(at.value, "list", "dict", "set", "sorted")
+            (made if new else other).add(at.targets[0].id)
+        elif isinstance(at, (ast.For, ast.comprehension)):
+            other |= {name.id for name in ast.walk(at.target) if isinstance(name, ast.Name)}
+    return made - other
+
+
+def loud_nodes(node, stored):
+    """What a function does that an operator must not run: changes, and calls of what it is passed or holds."""
+    local = {at.id for at in ast.walk(node) if isinstance(at, ast.Name) and isinstance(at.ctx, ast.Store)}
+    local |= {argument.arg for argument in ast.walk(node.args) if isinstance(argument, ast.arg)}
+    made = names_made(node)
+    for at in ast.walk(node):
+        if isinstance(at, ast.Call) and isinstance(at.func, ast.Attribute):
+            if at.func.attr in stored:
+                yield at
+            if at.func.attr in MODIFYING + ("add", "discard") and getattr(at.func.value, "id", None) not in made:
+                yield at
+        elif isinstance(at, ast.Call) and getattr(at.func, "id", None) in local - {"cls"}:
+            yield at
+        elif isinstance(at, ast.Attribute) and not isinstance(at.ctx, ast.Load) and node.name != "__init__":
+            yield at
+        elif isinstance(at, ast.Subscript) and not isinstance(at.ctx, ast.Load):
+            if getattr(at.value, "id", None) not in made:
+                yield at
+
+
 def rule_L5(source, files):
+    stored = stored_attributes(files)
+    for node in silent_functions(files):
+        if node in source.functions:
+            yield from loud_nodes(node, stored)
     for owner in source.classes:
         if owner.decorator_list or owner.keywords or any(not isinstance(base, ast.Name) for base in owner.bases):
             yield owner
@@ -535,6 +611,12 @@ def rule_L27(source, files):
     yield from [node for node in source.of(ast.Name) if node.id == "chr"]
 
 
+def is_made_text(node):
+    """Tells whether the value is a literal string, an f-string, str(..), repr(..) or the join of a literal."""
+    joined = isinstance(node, ast.Call) and getattr(node.func, "attr", "") == "join" and is_text(node.func.value)
+    return is_text(node) or isinstance(node, ast.JoinedStr) or is_call(node, "str", "repr") or joined
+
+
 def rule_L28(source, files):
     for node in source.functions:
         returns = [at for at in ast.walk(node) if isinstance(at, ast.Return)]
@@ -543,7 +625,7 @@ def rule_L28(source, files):
         for at in returns:
             if node.name == "__len__" and not (is_call(at.value, "len") or isinstance(at.value, ast.Constant)):
                 yield at
-            if node.name in ("__str__", "__repr__") and isinstance(at.value, (ast.Dict, ast.List, ast.Tuple)):
+            if node.name in ("__str__", "__repr__") and not is_made_text(at.value):
                 yield at
         if node.name in ("__len__", "__str__", "__repr__") and not isinstance(node.body[-1], ast.Return):
             yield node

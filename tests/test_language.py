@@ -21,6 +21,17 @@ BROKEN = {
         "class A:\n    x = len('a')", "class A:\n    def __hash__(self):\n        return 1",
         "@final\nclass A:\n    pass", "class A(metaclass=B):\n    pass", "def f(x):\n    return x.__dict__",
         "class A:\n    def __radd(self):\n        return 1\n    def __next__(self):\n        return 1",
+        "class A:\n    def __or__(self, x):\n        self.n = 1\n        return A()",
+        "class A:\n    def __and__(self, x):\n        x[0] = 1\n        return A()",
+        "class A:\n    def __len__(self):\n        return len(f(self))\ndef f(x):\n    x.append(1)\n    return x",
+        "class A:\n    @property\n    def n(self):\n        return self.m()\n    def m(self):\n        del self.k[0]",
+        "class A:\n    def __contains__(self, x):\n        return x(1)",
+        "class A:\n    def __init__(self, index):\n        self.index = index\n"
+        "    def __or__(self, x):\n        return A(f(x))\ndef f(x):\n    return (1, 2).index(x)",
+        "class A:\n    def __init__(self, x):\n        self.index = (1, 2).index(x)\n"
+        "    def __and__(self, x):\n        return A(x)",
+        {"__init__.py": "", "a.py": "class A:\n    def __init__(self, text):\n        self.text = text",
+         "b.py": "class B:\n    def __eq__(self, x):\n        return f(x)\ndef f(x):\n    return x.text()"},
     ),
     "L6": (
         "def f():\n    global x\n    x = 1", "async def f():\n    pass",
@@ -112,6 +123,11 @@ BROKEN = {
         "class A:\n    def __init__(self):\n        return None",
         "class A:\n    def __len__(self):\n        return self.n", "def __len__(self):\n    return 1",
         "class A:\n    def __str__(self):\n        if self.n:\n            return 'x'",
+        "class A:\n    def __str__(self):\n        return self.text",
+        "class A:\n    def __repr__(self):\n        return 'A' + str(self.n)",
+        "class A:\n    def __repr__(self):\n        if self.n:\n            return told(self)\n        return 'x'",
+        "class A:\n    def __str__(self):\n        def f(x):\n            return x\n        return str(f(1))",
+        "class A:\n    def __str__(self):\n        return self.sign.join(['x'])",
         "class A:\n    def __eq__(self, other):\n        self.n = 1\n        return True",
     ),
 }
