@@ -1,8 +1,10 @@
 """What several tests share: wrong values of every kind, a check of errors, and long rows."""
 
 import inspect
+import random
 import unittest
 
+from millbrook.changes import change_at, free_places
 from millbrook.errors import MillError
 
 TOP = 10**12
@@ -64,6 +66,18 @@ def not_houses():
 def same(one, other):
     """Tells whether two values are the same one or equal ones of the same kind."""
     return one is other or (type(one) is type(other) and one == other)
+
+
+def drawn_walk(row, house, changes, seed):
+    """A row that comes of the row by drawn allowed changes, equal seeds draw equal ones, and their places."""
+    source = random.Random(seed)
+    walk = []
+    for _ in range(changes):
+        places = free_places(row, house)
+        if places:
+            walk.append(source.choice(places))
+            row = change_at(row, walk[-1], house)
+    return tuple(row), walk
 
 
 class MillTest(unittest.TestCase):

@@ -2,7 +2,7 @@
 
 import inspect
 
-from millbrook import bound, changes, far, houses, rows, tame, words
+from millbrook import bound, changes, counts, far, firsts, rows, seals, sorts, tame, words
 from millbrook.errors import InvalidHouse, InvalidNumber, InvalidPlace, InvalidRow, InvalidText
 from millbrook.errors import InvalidWalk, InvalidWeight, InvalidWord, TooMany, UnlikeStones
 from millbrook.houses import House
@@ -99,11 +99,22 @@ CALLS = (
     (bound.row_index, (BAG, A_BAG)),
     (bound.row_at, ((3, 2, 1), A_BAG), (0, number(0, 0))),
     (bound.first_tame, (BAG, A_BAG)),
+    (sorts.sort_of, (HOUSE, A_HOUSE)),
+    (sorts.grade_of, (HOUSE, A_HOUSE)),
+    (sorts.carried_row, (ROW, A_ROW), (HOUSE, A_HOUSE)),
+    (seals.seal, (ROW, A_ROW), (HOUSE, A_HOUSE)),
+    (seals.comes, (ROW, A_ROW), (ROW[::-1], A_ROW), (HOUSE, A_HOUSE)),
+    (seals.seal_parting, (ROW, A_ROW), (ROW[::-1], A_ROW), (HOUSE, A_HOUSE)),
+    (counts.class_count, (HOUSE, A_HOUSE), (60, number(0, 60))),
+    (counts.class_width, (ROW, A_ROW), (HOUSE, A_HOUSE)),
+    (firsts.first_of_class, (ROW, A_ROW), (HOUSE, A_HOUSE)),
 )
 SHORT_CALLS = (
     (rows.every_row, 7), (bound.width, 10), (bound.row_index, 10), (bound.row_at, 10, None),
 )
 PAIR_CALLS = (rows.turned,)
+# These take a house behind the two rows.
+HOUSE_PAIR_CALLS = (seals.comes, seals.seal_parting)
 BAG_PAIR_CALLS = (
     tame.named_turned, far.comes_tame, far.tame_distance, far.tame_walk, far.parting_couple,
 )
@@ -170,6 +181,17 @@ class Arguments(MillTest):
             for function in PAIR_CALLS + BAG_PAIR_CALLS:
                 self.check_error(UnlikeStones(first, second), function, first, second)
             self.check_error(UnlikeStones(first, second), far.shows_parting, first, second, None)
+
+    def test_unlike_stones_under_a_house(self):
+        pairs = (((), (1,)), ([1], []), ((1, 2), (1, 3)), ((1, 2, 3), (1, 2)), ([1, 2], (3, 4)),
+                 ((1, 2, 3), (1, 2, 4)), ([5, 4, 3, 2, 1, 0], (0, 1, 2, 3, 4, 6)))
+        for first, second in pairs:
+            for function in HOUSE_PAIR_CALLS:
+                for house in House.every():
+                    self.check_error(UnlikeStones(first, second), function, first, second, house)
+                self.check_error(InvalidHouse("l-h"), function, first, second, "l-h")
+                self.check_error(InvalidRow([1, 1]), function, first, [1, 1], None)
+                self.check_error(InvalidRow([1, 1]), function, [1, 1], second, None)
 
     def test_unlike_bags(self):
         pairs = (((1, 1), (1,)), ([1, 2, 2], (1, 1, 2)), ([1, 1, 2, 2], [2, 1, 2, 2]), ((5,) * 40, (5,) * 39),

@@ -43,6 +43,12 @@ FUNCTIONS = {
         "bound_pairs": "(row)", "width": "(row)", "row_index": "(row)", "row_at": "(row, index)",
         "first_tame": "(row)",
     },
+    "sorts": {"sort_of": "(house)", "grade_of": "(house)", "carried_row": "(row, house)"},
+    "seals": {
+        "seal": "(row, house)", "comes": "(first, second, house)", "seal_parting": "(first, second, house)",
+    },
+    "counts": {"class_count": "(house, stones)", "class_width": "(row, house)"},
+    "firsts": {"first_of_class": "(row, house)"},
 }
 GENERATORS = ("every_row", "rows_along", "every_word")
 METHODS = {
