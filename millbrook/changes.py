@@ -12,23 +12,17 @@ def _check_all(row, place, house):
     check_house(house)
 
 
-def _kind_index(row, place, index):
-    """The index, in the order of the kinds, of the kind of the third stone at an index."""
+def _third_kinds(row, place):
+    """The pairs of the index of each third stone of a place and the index of its kind in the order of the kinds."""
     lighter, heavier = sorted(row[place:place + 2])
-    third = row[index]
-    letter = 0 if third < lighter else 1 if third < heavier else 2
-    return letter if index < place else letter + 3
-
-
-def _third_indexes(row, place):
-    """The indexes of the third stones of a place."""
-    return [index for index in range(len(row)) if index != place and index != place + 1]
+    letters = [0 if stone < lighter else 1 if stone < heavier else 2 for stone in row]
+    behind = [(index, letters[index] + 3) for index in range(place + 2, len(row))]
+    return [(index, letters[index]) for index in range(place)] + behind
 
 
 def _helper_indexes(row, place, house):
     """The indexes of the helpers of a place."""
-    thirds = _third_indexes(row, place)
-    return [index for index in thirds if house.names_index(_kind_index(row, place, index))]
+    return [index for index, kind in _third_kinds(row, place) if house.names_index(kind)]
 
 
 def _nearness(place, index):
@@ -45,7 +39,7 @@ def kinds_at(row, place):
     """The kinds of the third stones at the place, in the order of the kinds."""
     check_row(row)
     check_place(row, place)
-    present = [_kind_index(row, place, index) for index in _third_indexes(row, place)]
+    present = [kind for _, kind in _third_kinds(row, place)]
     return [kind for index, kind in enumerate(House.KINDS) if index in present]
 
 

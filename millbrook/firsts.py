@@ -6,7 +6,7 @@ the first row of the class is the first one that keeps the pairs, or that one wi
 """
 
 from millbrook.bound import bound_pairs
-from millbrook.contents import blocks, content_of
+from millbrook.contents import content_of
 from millbrook.houses import check_house
 from millbrook.rows import check_row, swapped
 from millbrook.seals import LEAST_CARRIED, seal_of

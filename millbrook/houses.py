@@ -4,26 +4,26 @@ from millbrook.errors import InvalidHouse
 from millbrook.values import check_number
 
 _MOST_HOUSES = 63
-# The letters of one side of a dash; their index is the sum of 1, 2, 4 for l, b, h.
-_SIDES = ("", "l", "b", "lb", "h", "lh", "bh", "lbh")
+# The letters of one side of a dash, and the sum of 1, 2, 4 for l, b, h.
+_SIDES = {"": 0, "l": 1, "b": 2, "lb": 3, "h": 4, "lh": 5, "bh": 6, "lbh": 7}
 _FLIPPED_SIDES = ("", "h", "b", "bh", "l", "lh", "lb", "lbh")
 
 
 def text_of_number(number):
     """The text of the house with this number; the text of number 0 is a dash alone."""
-    return _SIDES[number % 8] + "-" + _SIDES[number // 8]
+    sides = list(_SIDES)
+    return sides[number % 8] + "-" + sides[number // 8]
 
 
 def number_of_text(text):
     """The number of the house with this text, or 0 if the value is not the text of a house."""
     if not isinstance(text, str):
         return 0
-    # The operators of House run this, so nothing is called here that has the name of an attribute, as index has.
-    numbers = {side: number for number, side in enumerate(_SIDES)}
     before, dash, behind = text.partition("-")
-    if dash == "" or before not in numbers or behind not in numbers:
+    if dash == "" or before not in _SIDES or behind not in _SIDES:
         return 0
-    return numbers[before] + 8 * numbers[behind]
+    # The operators of House run this, so no method is called that has the name of an attribute, as index has.
+    return _SIDES[before] + 8 * _SIDES[behind]
 
 
 def check_house(house):
@@ -65,7 +65,7 @@ class House:
 
     def mirrored(self):
         """The house with the kinds before and behind exchanged."""
-        return House(_SIDES[self.number // 8] + "-" + _SIDES[self.number % 8])
+        return House(text_of_number(self.number // 8 + 8 * (self.number % 8)))
 
     def flipped(self):
         """The house with l and h exchanged on each side."""

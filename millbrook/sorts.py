@@ -29,15 +29,19 @@ _SORTS = {
     "lh-lbh": (22, "none"),
     "lbh-lbh": (23, "every"),
 }
-_CARRIES = ("same", "mirrored", "flipped", "both")
 
 
 def first_house_and_carry(house):
     """The first house of the house's sort and the carry of the house."""
+    if house.text in _SORTS:
+        return house, "same"
+    mirrored = house.mirrored()
+    if mirrored.text in _SORTS:
+        return mirrored, "mirrored"
     flipped = house.flipped()
-    turns = (house, house.mirrored(), flipped, flipped.mirrored())
-    found = [(turn, carry) for turn, carry in zip(turns, _CARRIES) if turn.text in _SORTS]
-    return found[0]
+    if flipped.text in _SORTS:
+        return flipped, "flipped"
+    return flipped.mirrored(), "both"
 
 
 def sort_and_carry(house):

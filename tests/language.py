@@ -461,7 +461,8 @@ def rule_L18(source, files):
         if node.id in own and isinstance(node.ctx, ast.Load):
             parent = source.parent[node]
             called = isinstance(parent, ast.Call) and (parent.func is node or is_call(parent, "isinstance"))
-            tuples = isinstance(parent, ast.Tuple) and is_call(source.parent[parent], "isinstance")
+            around = source.parent[parent] if isinstance(parent, ast.Tuple) else None
+            tuples = is_call(around, "isinstance") or isinstance(around, ast.ExceptHandler)
             if not called and not tuples and not isinstance(
                     parent, (ast.ClassDef, ast.Attribute, ast.ExceptHandler, ast.Raise)):
                 yield node

@@ -2,15 +2,18 @@
 
 import inspect
 
-from millbrook import bound, changes, counts, far, firsts, rows, seals, sorts, tame, words
-from millbrook.errors import InvalidHouse, InvalidNumber, InvalidPlace, InvalidRow, InvalidText
-from millbrook.errors import InvalidWalk, InvalidWeight, InvalidWord, TooMany, UnlikeStones
+from millbrook import bound, certificates, changes, costs, counts, far, firsts, plain, roads, rows, seals, sorts
+from millbrook import tame, words
+from millbrook.costs import Cost, GapCost, TableCost
+from millbrook.errors import InvalidCost, InvalidHouse, InvalidNumber, InvalidPlace, InvalidRow, InvalidTable
+from millbrook.errors import InvalidText, InvalidWalk, InvalidWeight, InvalidWord, TooMany, UnlikeStones
 from millbrook.houses import House
 from tests import support
-from tests.support import MillTest
+from tests.support import TOP, MillTest
 
 HOUSE = House("l-h")
 ROW = [3, 1, 2, 4]
+JOINED = [1, 3, 2, 4]
 BAG = [3, 1, 3, 2]
 # What is wrong as a place of a row of four stones, and as a walk of it.
 NOT_PLACES = support.NOT_INTEGERS + (-1, 3, 4, 10**5000, -10**5000)
@@ -47,6 +50,9 @@ A_WALK = (InvalidWalk, NOT_WALKS)
 A_HOUSE = (InvalidHouse, support.not_houses())
 A_TEXT = (InvalidText, NOT_ROW_TEXTS)
 A_WORD = (InvalidWord, NOT_WORDS)
+A_COST = (InvalidCost, support.NOT_INTEGERS + (0, 1, Cost, GapCost, TableCost, {(1, 2): 3}, "Cost"))
+A_TABLE = (InvalidTable, tuple(value for value in support.NOT_LISTS if not isinstance(value, dict)) + (
+    [], [((1, 2), 3)], ((1, 2), 3), {(2, 1): 3}, {(1, 2): -1}, {(1, 2): True}, {(1, 2): 3, (1, 2, 3): 3}))
 
 # Each call with good arguments, and what its arguments are.
 CALLS = (
@@ -108,13 +114,36 @@ CALLS = (
     (counts.class_count, (HOUSE, A_HOUSE), (60, number(0, 60))),
     (counts.class_width, (ROW, A_ROW), (HOUSE, A_HOUSE)),
     (firsts.first_of_class, (ROW, A_ROW), (HOUSE, A_HOUSE)),
+    (plain.plain_class, (ROW, A_ROW), (HOUSE, A_HOUSE)),
+    (plain.plain_distance, (ROW, A_ROW), (ROW[::-1], A_ROW), (HOUSE, A_HOUSE)),
+    (plain.count_walks, (ROW, A_ROW), (ROW[::-1], A_ROW), (HOUSE, A_HOUSE)),
+    (plain.farthest, (ROW, A_ROW), (HOUSE, A_HOUSE)),
+    (roads.distance, (ROW, A_ROW), (ROW[::-1], A_ROW), (HOUSE, A_HOUSE)),
+    (roads.shortest, (ROW, A_ROW), (JOINED, A_ROW), (HOUSE, A_HOUSE)),
+    (roads.road, (ROW, A_ROW), (JOINED, A_ROW), (HOUSE, A_HOUSE)),
+    (roads.road, (ROW, A_ROW), (ROW[::-1], A_ROW), (House("lh-lb"), A_HOUSE)),
+    (roads.one_way, (ROW, A_ROW), (ROW, A_ROW), (HOUSE, A_HOUSE)),
+    (lambda base: Cost(base).base, (0, number(0, TOP))),
+    (lambda base: GapCost(base).base, (TOP, number(0, TOP))),
+    (lambda table, base: TableCost(table, base).of(1, 2), ({(1, 2): 3}, A_TABLE), (5, number(0, TOP))),
+    (costs.walk_cost, (ROW, A_ROW), ([0], A_WALK), (HOUSE, A_HOUSE), (Cost(3), A_COST)),
+    (costs.least_cost, (ROW, A_ROW), (JOINED, A_ROW), (HOUSE, A_HOUSE), (GapCost(3), A_COST)),
+    (lambda first, second, house: vars(certificates.answer(first, second, house)),
+     (ROW, A_ROW), (JOINED, A_ROW), (HOUSE, A_HOUSE)),
+    (lambda first, second, house: vars(certificates.answer(first, second, house)),
+     (ROW, A_ROW), (ROW[::-1], A_ROW), (HOUSE, A_HOUSE)),
 )
 SHORT_CALLS = (
     (rows.every_row, 7), (bound.width, 10), (bound.row_index, 10), (bound.row_at, 10, None),
+    (plain.plain_class, 6, None), (plain.farthest, 6, None), (plain.plain_distance, 6, None, None),
+    (plain.count_walks, 6, None, None),
 )
 PAIR_CALLS = (rows.turned,)
 # These take a house behind the two rows.
-HOUSE_PAIR_CALLS = (seals.comes, seals.seal_parting)
+HOUSE_PAIR_CALLS = (
+    seals.comes, seals.seal_parting, plain.plain_distance, plain.count_walks, roads.distance, roads.shortest,
+    roads.road, roads.one_way, certificates.answer,
+)
 BAG_PAIR_CALLS = (
     tame.named_turned, far.comes_tame, far.tame_distance, far.tame_walk, far.parting_couple,
 )

@@ -1,12 +1,12 @@
 """The first row of a class in dictionary order [30]."""
 
+from millbrook.bound import first_tame
 from millbrook.errors import InvalidRow
 from millbrook.firsts import first_of_class
-from millbrook.bound import first_tame
 from millbrook.houses import House
 from millbrook.seals import seal
 from millbrook.sorts import sort_of
-from tests import reading, search
+from tests import search
 from tests.support import LONG_ROWS, TOP, MillTest, drawn_walk, shuffled
 
 HOUSES = House.every()

@@ -5,6 +5,8 @@ import inspect
 import unittest
 
 from millbrook import errors
+from millbrook.certificates import Certificate, Parting, Road
+from millbrook.costs import Cost, GapCost, TableCost
 from millbrook.errors import MillError
 from millbrook.far import Brook
 from millbrook.houses import House
@@ -49,8 +51,26 @@ FUNCTIONS = {
     },
     "counts": {"class_count": "(house, stones)", "class_width": "(row, house)"},
     "firsts": {"first_of_class": "(row, house)"},
+    "plain": {
+        "plain_class": "(row, house)", "plain_distance": "(first, second, house)",
+        "count_walks": "(first, second, house)", "farthest": "(row, house)",
+    },
+    "roads": {
+        "distance": "(first, second, house)", "shortest": "(first, second, house)",
+        "road": "(first, second, house)", "one_way": "(first, second, house)",
+    },
+    "costs": {
+        "Cost": "(base=1)", "GapCost": "(base=1)", "TableCost": "(table, base=1)",
+        "walk_cost": "(row, walk, house, cost)", "least_cost": "(first, second, house, cost)",
+    },
+    "certificates": {
+        "Certificate": "(house, first, second)", "Road": "(house, first, second, places)",
+        "Parting": "(house, first, second, index, left, right)", "answer": "(first, second, house)",
+    },
 }
 GENERATORS = ("every_row", "rows_along", "every_word")
+COST_METHODS = {"of": "(self, lighter, heavier)", "__call__": "(self, lighter, heavier)"}
+CERTIFICATE_METHODS = {"holds": "(self)", "summary": "(self)"}
 METHODS = {
     House: {
         "named": "(self)", "mirrored": "(self)", "flipped": "(self)", "is_finer": "(self, other)",
@@ -59,6 +79,12 @@ METHODS = {
         "__and__": "(self, other)", "__init__": "(self, text)",
     },
     Brook: {"__init__": "(self)", "lay": "(self, weight)", "lift": "(self)"},
+    Cost: {"__init__": "(self, base=1)", **COST_METHODS},
+    GapCost: {"__init__": "(self, base=1)", **COST_METHODS},
+    TableCost: {"__init__": "(self, table, base=1)", **COST_METHODS},
+    Certificate: {"__init__": "(self, house, first, second)", **CERTIFICATE_METHODS},
+    Road: {"__init__": "(self, house, first, second, places)", **CERTIFICATE_METHODS},
+    Parting: {"__init__": "(self, house, first, second, index, left, right)", **CERTIFICATE_METHODS},
 }
 ERRORS = {
     "InvalidRow": "row", "InvalidWeight": "weight", "InvalidPlace": "place", "InvalidWalk": "walk",
