@@ -123,6 +123,15 @@ class Holding(MillTest):
         self.assertIs(Parting(house, (3, 1, 2), (3, 2, 1), 1, 2, 1).holds(), False)
         self.assertIs(Parting(house, (3, 1, 2), (3, 2, 1), 1, 1, 2).holds(), True)
 
+    def test_an_index_that_counts_from_the_end(self):
+        first, second = (3, 2, 1), (1, 2, 3)
+        for text in ("l-", "lb-", "lbh-", "lh-", "b-b", "bh-l"):
+            one, other = seal(first, House(text))[1], seal(second, House(text))[1]
+            for index in range(1, min(len(one), len(other)) + 1):
+                self.assertIs(Parting(House(text), first, second, -index, one[-index], other[-index]).holds(), False)
+        self.assertIs(Parting(HOUSE, (1, 2), (2, 1), -1, 2, 1).holds(), False)
+        self.assertIs(Parting(HOUSE, (1, 2), (2, 1), 1, 2, 1).holds(), True)
+
     def test_an_index_at_which_the_entries_are_the_same(self):
         self.assertIs(Parting(House("lb-"), (3, 2, 1), (3, 1, 2), 0, 3, 3).holds(), False)
         self.assertIs(Parting(House("lb-"), (3, 2, 1), (3, 1, 2), 3, "end", "end").holds(), False)
