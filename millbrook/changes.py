@@ -35,12 +35,16 @@ def frees(row, place, house):
     return len(_helper_indexes(row, place, house)) > 0
 
 
+def present_kinds(row, place):
+    """The indexes of the kinds of the third stones of a place, in the order of the kinds."""
+    return sorted({kind for _, kind in _third_kinds(row, place)})
+
+
 def kinds_at(row, place):
     """The kinds of the third stones at the place, in the order of the kinds."""
     check_row(row)
     check_place(row, place)
-    present = [kind for _, kind in _third_kinds(row, place)]
-    return [kind for index, kind in enumerate(House.KINDS) if index in present]
+    return [House.KINDS[index] for index in present_kinds(row, place)]
 
 
 def helpers(row, place, house):

@@ -18,6 +18,8 @@ LIBRARY = {
                   "zip_longest"},
     "collections": {"defaultdict"},
 }
+# A doctest leaves the last value that it showed among the builtins, under the name _.
+NAMES_OF_BUILTINS = set(dir(builtins)) - {"_"}
 BUILTINS = set(
     "len range enumerate zip min max sum abs sorted reversed int str bool bytes list tuple dict set frozenset "
     "isinstance ord repr any all divmod pow getattr hasattr setattr iter next map super Exception ValueError "
@@ -251,8 +253,20 @@ def names_made(node):
     return made - other
 
 
-def loud_nodes(node, stored):
-    """What a function does that an operator must not run: changes, and calls of what it is passed or holds."""
+def objects_made(node, own):
+    """The local names of a function that are assigned once, by a call of an own class."""
+    assigned = [at for at in ast.walk(node) if isinstance(at, ast.Name) and isinstance(at.ctx, ast.Store)]
+    names = [at.id for at in assigned]
+    made = [at.targets[0].id for at in ast.walk(node) if isinstance(at, ast.Assign) and is_call(at.value, *own)
+            and isinstance(at.targets[0], ast.Name)]
+    return {name for name in made if names.count(name) == 1}
+
+
+def loud_nodes(node, stored, own):
+    """What a function does that an operator must not run: changes, and calls of what it is passed or holds.
+
+    It may assign the attributes of an object that it creates.
+    """
     local = {at.id for at in ast.walk(node) if isinstance(at, ast.Name) and isinstance(at.ctx, ast.Store)}
     local |= {argument.arg for argument in ast.walk(node.args) if isinstance(argument, ast.arg)}
     made = names_made(node)
@@ -265,7 +279,8 @@ def loud_nodes(node, stored):
         elif isinstance(at, ast.Call) and getattr(at.func, "id", None) in local - {"cls"}:
             yield at
         elif isinstance(at, ast.Attribute) and not isinstance(at.ctx, ast.Load) and node.name != "__init__":
-            yield at
+            if getattr(at.value, "id", None) not in objects_made(node, own):
+                yield at
         elif isinstance(at, ast.Subscript) and not isinstance(at.ctx, ast.Load):
             if getattr(at.value, "id", None) not in made:
                 yield at
@@ -273,9 +288,10 @@ def loud_nodes(node, stored):
 
 def rule_L5(source, files):
     stored = stored_attributes(files)
+    own = [node.name for file in files.values() for node in file.classes]
     for node in silent_functions(files):
         if node in source.functions:
-            yield from loud_nodes(node, stored)
+            yield from loud_nodes(node, stored, own)
     for owner in source.classes:
         if owner.decorator_list or owner.keywords or any(not isinstance(base, ast.Name) for base in owner.bases):
             yield owner
@@ -400,7 +416,7 @@ def rule_L14(source, files):
     stem = source.name.removesuffix(".py")
     if stem != "__init__" and stem != "__main__":
         barred = ("test", "tests", "testing", "site", "conftest", "sitecustomize", "usercustomize")
-        if stem in barred or stem.startswith(("law_", "test_")) or hasattr(builtins, stem) or stem in LIBRARY:
+        if stem in barred or stem.startswith(("law_", "test_")) or stem in NAMES_OF_BUILTINS or stem in LIBRARY:
             yield source.tree
     if "__init__.py" not in files:
         yield source.tree
@@ -414,10 +430,10 @@ def rule_L15(source, files):
                 yield node
     taken = {node.name for node in source.classes} | set(source.imported())
     for name, node in source.bound():
-        if name in taken or hasattr(builtins, name):
+        if name in taken or name in NAMES_OF_BUILTINS:
             yield node
     for node in source.tree.body:
-        if isinstance(node, (ast.FunctionDef, ast.ClassDef)) and hasattr(builtins, node.name):
+        if isinstance(node, (ast.FunctionDef, ast.ClassDef)) and node.name in NAMES_OF_BUILTINS:
             yield node
     yield from [node for node in source.classes if source.parent[node] is not source.tree]
 
@@ -513,7 +529,7 @@ def rule_L21(source, files):
 
 def rule_L22(source, files):
     for node in source.of(ast.Call):
-        if isinstance(node.func, ast.Name) and hasattr(builtins, node.func.id):
+        if isinstance(node.func, ast.Name) and node.func.id in NAMES_OF_BUILTINS:
             if {word.arg for word in node.keywords} - KEYWORDS.get(node.func.id, set()):
                 yield node
     for node in source.of(ast.Name):

@@ -2,57 +2,20 @@
 
 import inspect
 
-from millbrook import bound, certificates, changes, costs, counts, far, firsts, plain, roads, rows, seals, sorts
-from millbrook import tame, words
+from millbrook import bound, certificates, changes, compare, costs, counts, far, firsts, plain, roads, rows, seals
+from millbrook import sorts, tame, words
+from millbrook.books import Book
 from millbrook.costs import Cost, GapCost, TableCost
-from millbrook.errors import InvalidCost, InvalidHouse, InvalidNumber, InvalidPlace, InvalidRow, InvalidTable
-from millbrook.errors import InvalidText, InvalidWalk, InvalidWeight, InvalidWord, TooMany, UnlikeStones
+from millbrook.errors import InvalidHouse, InvalidNumber, InvalidPlace, InvalidRow, TooMany, UnlikeStones
+from millbrook.housebooks import house_book, least_want
 from millbrook.houses import House
+from millbrook.locks import Lock
+from millbrook.stories import Story
 from tests import support
+from tests.object_calls import OBJECT_CALLS
 from tests.support import TOP, MillTest
-
-HOUSE = House("l-h")
-ROW = [3, 1, 2, 4]
-JOINED = [1, 3, 2, 4]
-BAG = [3, 1, 3, 2]
-# What is wrong as a place of a row of four stones, and as a walk of it.
-NOT_PLACES = support.NOT_INTEGERS + (-1, 3, 4, 10**5000, -10**5000)
-NOT_WALKS = support.NOT_LISTS + tuple(
-    kind(places)
-    for kind in (list, tuple)
-    for places in ([3], [0, 1, 2, 3], [-1], [0, True], [False], [1.0], [None], ["0"], [[0]], [0] * 20001)
-)
-NOT_WORDS = support.NOT_TEXTS + (
-    0, "U", "D", "DU", "UDD", "UUD", "UDDU", "-D-U", "u", "ud", "UDx", " ", "UD ", " UD", "U D", "U-D\n",
-    "UDU", "\u2212", "\u2013", "UD\0", "-" * 41, "U" * 21 + "D" * 21, "-" * 100000, b"UD", ["U", "D"],
-)
-NOT_ROW_TEXTS = support.NOT_TEXTS + (
-    "", " ", "Empty", "empty ", " empty", "empty empty", "1 empty", "EMPTY", "1 ", " 1", "1  2", "1\t2",
-    "1\n2", "1\n", "\n1", "1,2", "1, 2", "01", "00", "-0", "+1", "--1", "- 1", "-", "1-", "1 -", "1.0", "1e3",
-    "1_000", "0x1", "0b1", "x", "None", "True", "1 1", "2 3 2", "-5 5 -5", "(1, 2)", "[1]", "\u0661",
-    "\uff11", "1 \u0662", "\u00b2", "\u2212" + "1", "1\u00a02", "1000000000001", "-1000000000001",
-    "0000000000001", "10000000000000", "9" * 14, "1" * 5000, "1" * 100000, "-" + "1" * 100000,
-    "0" * 100000, "-" * 100000, " " * 100000, " ".join(str(weight) for weight in range(41)),
-    " ".join(str(weight) for weight in range(50000)), "empty" * 10000,
-)
-
-
-def number(low, high):
-    """What is wrong as a number from low to high."""
-    return InvalidNumber, support.NOT_INTEGERS + (low - 1, high + 1, 10**5000, -10**5000)
-
-
-A_ROW = (InvalidRow, support.NOT_ROWS)
-A_BAG = (InvalidRow, support.NOT_BAG_ROWS)
-A_WEIGHT = (InvalidWeight, support.NOT_WEIGHTS)
-A_PLACE = (InvalidPlace, NOT_PLACES)
-A_WALK = (InvalidWalk, NOT_WALKS)
-A_HOUSE = (InvalidHouse, support.not_houses())
-A_TEXT = (InvalidText, NOT_ROW_TEXTS)
-A_WORD = (InvalidWord, NOT_WORDS)
-A_COST = (InvalidCost, support.NOT_INTEGERS + (0, 1, Cost, GapCost, TableCost, {(1, 2): 3}, "Cost"))
-A_TABLE = (InvalidTable, tuple(value for value in support.NOT_LISTS if not isinstance(value, dict)) + (
-    [], [((1, 2), 3)], ((1, 2), 3), {(2, 1): 3}, {(1, 2): -1}, {(1, 2): True}, {(1, 2): 3, (1, 2, 3): 3}))
+from tests.wrong import A_BAG, A_COST, A_HOUSE, A_PLACE, A_ROW, A_TABLE, A_TEXT, A_WALK, A_WEIGHT, A_WORD, BAG, HOUSE
+from tests.wrong import JOINED, ROW, number
 
 # Each call with good arguments, and what its arguments are.
 CALLS = (
@@ -132,13 +95,18 @@ CALLS = (
      (ROW, A_ROW), (JOINED, A_ROW), (HOUSE, A_HOUSE)),
     (lambda first, second, house: vars(certificates.answer(first, second, house)),
      (ROW, A_ROW), (ROW[::-1], A_ROW), (HOUSE, A_HOUSE)),
-)
+) + OBJECT_CALLS
 SHORT_CALLS = (
     (rows.every_row, 7), (bound.width, 10), (bound.row_index, 10), (bound.row_at, 10, None),
     (plain.plain_class, 6, None), (plain.farthest, 6, None), (plain.plain_distance, 6, None, None),
-    (plain.count_walks, 6, None, None),
+    (plain.count_walks, 6, None, None), (Book, 10), (lambda stones: house_book(HOUSE, stones), 10),
+    (lambda first, second: least_want(HOUSE, first, second), 10, None), (Story, 6, None),
+    (lambda second: least_want(HOUSE, (), second), 10),
 )
-PAIR_CALLS = (rows.turned,)
+PAIR_CALLS = (
+    rows.turned, compare.houses_joining, compare.finest_joining, Lock(HOUSE).joins, Lock(HOUSE).road,
+    Lock(HOUSE).parting,
+)
 # These take a house behind the two rows.
 HOUSE_PAIR_CALLS = (
     seals.comes, seals.seal_parting, plain.plain_distance, plain.count_walks, roads.distance, roads.shortest,

@@ -5,11 +5,17 @@ import inspect
 import unittest
 
 from millbrook import errors
+from millbrook.books import Book
 from millbrook.certificates import Certificate, Parting, Road
 from millbrook.costs import Cost, GapCost, TableCost
+from millbrook.desks import Desk
 from millbrook.errors import MillError
 from millbrook.far import Brook
 from millbrook.houses import House
+from millbrook.ledgers import Ledger
+from millbrook.locks import Lock
+from millbrook.logs import Log
+from millbrook.stories import Story
 
 FUNCTIONS = {
     "rows": {
@@ -67,6 +73,18 @@ FUNCTIONS = {
         "Certificate": "(house, first, second)", "Road": "(house, first, second, places)",
         "Parting": "(house, first, second, index, left, right)", "answer": "(first, second, house)",
     },
+    "books": {"Book": "(stones)"},
+    "housebooks": {"house_book": "(house, stones, *, want=1)", "least_want": "(house, first, second)"},
+    "compare": {
+        "joins_all": "(house, stones)", "alike": "(first, second, stones)", "parting_rows": "(first, second)",
+        "houses_joining": "(first, second)", "finest_joining": "(first, second)",
+    },
+    "locks": {"Lock": "(*keepers)"},
+    "logs": {"Log": "()"},
+    "probes": {"probe": "(kinds)", "best_probe": "(log)", "find_house": "(ask)"},
+    "stories": {"Story": "(row, house)"},
+    "ledgers": {"Ledger": "()"},
+    "desks": {"Desk": "(row, house, limit=100)"},
 }
 GENERATORS = ("every_row", "rows_along", "every_word")
 COST_METHODS = {"of": "(self, lighter, heavier)", "__call__": "(self, lighter, heavier)"}
@@ -85,6 +103,45 @@ METHODS = {
     Certificate: {"__init__": "(self, house, first, second)", **CERTIFICATE_METHODS},
     Road: {"__init__": "(self, house, first, second, places)", **CERTIFICATE_METHODS},
     Parting: {"__init__": "(self, house, first, second, index, left, right)", **CERTIFICATE_METHODS},
+    Book: {
+        "__init__": "(self, stones)", "say": "(self, first, second, want=1)",
+        "strengthen": "(self, stronger, weaker)", "ban": "(self, first, second)", "sayings": "(self)",
+        "bans": "(self)", "is_stronger": "(self, one, other)", "true_sayings": "(self, row)",
+        "strongest": "(self, row)", "allows": "(self, row, place)", "allowed": "(self, row)",
+        "changed": "(self, row, place)", "book_seal": "(self, row)", "joins": "(self, first, second)",
+        "road": "(self, first, second)", "parting": "(self, first, second)", "twin": "(self)", "__len__": "(self)",
+        "__contains__": "(self, pair)",
+    },
+    Lock: {
+        "__init__": "(self, *keepers)", "allows": "(self, row, place)", "allowed": "(self, row)",
+        "changed": "(self, row, place)", "joins": "(self, first, second)", "road": "(self, first, second)",
+        "parting": "(self, first, second)", "__len__": "(self)", "__add__": "(self, other)",
+    },
+    Log: {
+        "__init__": "(self)", "note": "(self, row, place, done)", "strike": "(self, index)", "lines": "(self)",
+        "twin": "(self)", "wrong_lines": "(self, house)", "fitting": "(self, *, wrong=0)", "greatest": "(self)",
+        "least": "(self)", "least_wrong": "(self)", "culprits": "(self)", "foretold": "(self, row, place)",
+        "__len__": "(self)",
+    },
+    Story: {
+        "__init__": "(self, row, house)", "saw": "(self, place)", "unseen": "(self)",
+        "glimpse": "(self, index, weight)", "refused": "(self, place)", "withdraw": "(self)", "events": "(self)",
+        "possible": "(self)", "ways": "(self)", "places_of": "(self, event)", "broken_at": "(self)",
+        "surely": "(self, index)",
+    },
+    Ledger: {
+        "__init__": "(self)", "add_name": "(self, name, row=None)", "names": "(self)", "row_of": "(self, name)",
+        "tell": "(self, house, one, other, same)", "strike": "(self, index)", "lines": "(self)",
+        "standing": "(self, house, one, other)", "reason": "(self, house, one, other)", "groups": "(self, house)",
+        "finest": "(self, one, other)", "coarsest_apart": "(self, one, other)", "twin": "(self)",
+        "__len__": "(self)",
+    },
+    Desk: {
+        "__init__": "(self, row, house, limit=100)", "set_limit": "(self, limit)", "change": "(self, place)",
+        "undo": "(self)", "redo": "(self)", "history": "(self)", "drop": "(self, index)", "blame": "(self, index)",
+        "mark": "(self, name)", "unmark": "(self, name)", "go": "(self, name)", "marks": "(self)",
+        "lead": "(self, goal)", "run": "(self, deeds)", "twin": "(self)", "report": "(self)",
+    },
 }
 ERRORS = {
     "InvalidRow": "row", "InvalidWeight": "weight", "InvalidPlace": "place", "InvalidWalk": "walk",
@@ -130,8 +187,19 @@ class Interface(unittest.TestCase):
         self.assertEqual(str(inspect.signature(House.by_number)), "(number)")
         self.assertIsInstance(vars(House)["every"], staticmethod)
         self.assertEqual(str(inspect.signature(House.every)), "()")
-        for name in ("laid", "couples", "lightest"):
-            self.assertIsInstance(vars(Brook)[name], property)
+        for owner, names in ((Brook, ("laid", "couples", "lightest")), (Desk, ("present", "spare", "limit"))):
+            for name in names:
+                self.assertIsInstance(vars(owner)[name], property)
+        self.assertIsNotNone(vars(Desk)["limit"].fset)
+
+    def test_attributes_are_set_on_each_object(self):
+        house = House("l-h")
+        self.assertEqual(vars(Book([3, 1, 2]))["stones"], (1, 2, 3))
+        self.assertIs(vars(Desk([3, 1, 2], house))["house"], house)
+
+    def test_classes_without_a_base(self):
+        for owner in (Book, Lock, Log, Story, Ledger, Desk, Brook, House, Cost, Certificate):
+            self.assertEqual(owner.__bases__, (object,))
 
     def test_class_value(self):
         self.assertEqual(vars(House)["KINDS"], ("l-", "b-", "h-", "-l", "-b", "-h"))

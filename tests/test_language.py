@@ -26,6 +26,8 @@ BROKEN = {
         "class A:\n    def __len__(self):\n        return len(f(self))\ndef f(x):\n    x.append(1)\n    return x",
         "class A:\n    @property\n    def n(self):\n        return self.m()\n    def m(self):\n        del self.k[0]",
         "class A:\n    def __contains__(self, x):\n        return x(1)",
+        "class A:\n    def __add__(self, x):\n        y = A()\n        y = x\n        y.n = 1\n        return y",
+        "class A:\n    def __add__(self, x):\n        return f(x)\ndef f(x):\n    x.n = 1\n    return x",
         "class A:\n    def __init__(self, index):\n        self.index = index\n"
         "    def __or__(self, x):\n        return A(f(x))\ndef f(x):\n    return (1, 2).index(x)",
         "class A:\n    def __init__(self, x):\n        self.index = (1, 2).index(x)\n"

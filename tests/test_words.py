@@ -11,7 +11,7 @@ from millbrook.words import count_stuck, count_words, couples_of_word, every_wor
 from millbrook.words import word_at, word_index, word_of
 from tests import plain, support
 from tests.support import LONG_ROWS, TOP, MillTest
-from tests.test_arguments import NOT_WORDS
+from tests.wrong import NOT_WORDS
 
 LONG_WORDS = (
     "-" * 40, "U" * 20 + "D" * 20, "UD" * 20, "U-D-" * 10, "-" * 38 + "UD", "UD" + "-" * 38, "UUDD" * 10,
