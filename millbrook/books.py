@@ -1,6 +1,6 @@
 """Books: general sets of rules for rows of few stones [38] to [41]."""
 
-from millbrook.errors import Barred, InvalidCouple, NoSaying, NoStone, Ring, SayingThere, UnlikeStones, WantTooSmall
+from millbrook.errors import Barred, InvalidCouple, NoSaying, NoStone, Ring, SayingThere, WantTooSmall
 from millbrook.orders import goal_order, least_walk
 from millbrook.rows import check_alike, check_place, check_row, check_stones, swapped
 from millbrook.values import check_number, is_integer

@@ -9,6 +9,7 @@ from itertools import combinations, permutations, product
 from millbrook.books import Book
 from millbrook.errors import Ring, WantTooSmall
 from tests import plain
+from tests.support import MillTest
 
 
 def empty():
@@ -167,3 +168,34 @@ def steps_of_book(stones, told):
     """The allowed changes of all rows of the stones under a told book."""
     stronger = stronger_pairs(told)
     return steps_under(stones, lambda row, place: allows(told, stronger, row, place))
+
+
+class BookTest(MillTest):
+    """A test case that can compare books with a plain search by allowed changes."""
+
+    def check_book(self, book, told, goals):
+        """The book allows what the told one allows; seals, roads and partings agree with the search."""
+        stronger = stronger_pairs(told)
+        steps = steps_of_book(book.stones, told)
+        for row in steps:
+            self.assertEqual(book.allowed(row), [place for place, _ in steps[row]])
+            self.check_kinds(book.book_seal(row), book_seal(told, stronger, row))
+        self.assertEqual(classes(steps), grouped(list(steps), book.book_seal))
+        for goal in list(steps)[::goals]:
+            walks = least_walks(goal, steps)
+            for row in steps:
+                self.assertEqual(book.road(row, goal), walks.get(row))
+                self.assertIs(book.joins(row, goal), row in walks)
+                self.check_parting(book, row, goal)
+                if row in walks:
+                    self.assertEqual(len(walks[row]), len(plain.named_turned(row, goal)))
+
+    def check_parting(self, book, first, second):
+        """The parting is the first difference of the book seals."""
+        one, other = book.book_seal(first), book.book_seal(second)
+        for word, left, right in (("saying", one[0], other[0]), ("ban", one[1], other[1])):
+            for index in range(len(left)):
+                if left[index] != right[index]:
+                    self.check_kinds(book.parting(first, second), (word, index))
+                    return
+        self.assertIs(book.parting(first, second), None)

@@ -364,35 +364,8 @@ class Copies(MillTest):
             self.assertEqual(state(book), before)
 
 
-class Searched(MillTest):
-    """Books against a plain search by allowed changes."""
-
-    def check_book(self, book, told, goals):
-        """The book allows what the told one allows; seals, roads and partings agree with the search."""
-        stronger = ruling.stronger_pairs(told)
-        steps = ruling.steps_of_book(book.stones, told)
-        for row in steps:
-            self.assertEqual(book.allowed(row), [place for place, _ in steps[row]])
-            self.check_kinds(book.book_seal(row), ruling.book_seal(told, stronger, row))
-        self.assertEqual(ruling.classes(steps), ruling.grouped(list(steps), book.book_seal))
-        for goal in list(steps)[::goals]:
-            walks = ruling.least_walks(goal, steps)
-            for row in steps:
-                self.assertEqual(book.road(row, goal), walks.get(row))
-                self.assertIs(book.joins(row, goal), row in walks)
-                self.check_parting(book, row, goal)
-                if row in walks:
-                    self.assertEqual(len(walks[row]), len(plain.named_turned(row, goal)))
-
-    def check_parting(self, book, first, second):
-        """The parting is the first difference of the book seals."""
-        one, other = book.book_seal(first), book.book_seal(second)
-        for word, left, right in (("saying", one[0], other[0]), ("ban", one[1], other[1])):
-            for index in range(len(left)):
-                if left[index] != right[index]:
-                    self.check_kinds(book.parting(first, second), (word, index))
-                    return
-        self.assertIs(book.parting(first, second), None)
+class Searched(ruling.BookTest):
+    """Drawn books against a plain search by allowed changes."""
 
     def test_drawn_books(self):
         source = random.Random(38)

@@ -130,6 +130,26 @@ class Allowed(MillTest):
             self.assertEqual(len(ruling.classes(steps)), many)
 
 
+class Searched(ruling.BookTest):
+    """The books of houses against a plain search by allowed changes."""
+
+    def check_house(self, house, stones, want, goals):
+        """The book of the house with the want for these stones."""
+        told = ruling.of_house(house.text, stones, want)
+        self.check_book(house_book(house, stones, want=want), told, goals)
+
+    def test_few_stones(self):
+        for house in BOOKS:
+            for count in range(5):
+                for want in (0, 1, 2, 3, 100):
+                    self.check_house(house, tuple(range(1, count + 1)), want, 1 if count < 4 else 5)
+
+    def test_five_stones(self):
+        for house in BOOKS:
+            for want in (1, 2, 4):
+                self.check_house(house, (TOP, -3, 0, 8, 5), want, 29)
+
+
 class LeastWant(MillTest):
 
     def numbers_of_classes(self, house, stones, want):

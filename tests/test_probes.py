@@ -7,7 +7,7 @@ from millbrook.errors import InvalidAnswer, InvalidKinds, InvalidLog
 from millbrook.houses import House
 from millbrook.logs import Log
 from millbrook.probes import best_probe, find_house, probe
-from tests import plain, support
+from tests import plain
 from tests.support import MillTest
 from tests.wrong import A_LOG, A_SET_OF_KINDS, AN_ANSWER
 
@@ -176,4 +176,3 @@ class FindHouse(MillTest):
 
     def test_fewer_than_six_answers_cannot_tell_all_houses_apart(self):
         self.assertGreater(len(HOUSES), 2**5)
-        self.assertEqual(support.same(len(KINDS), 6), True)
